@@ -1,0 +1,1 @@
+"""Rows of things, ordered by the pairs that are turned."""
